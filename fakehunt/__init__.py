@@ -1,0 +1,1 @@
+"""Fakehunt: programs one step away, and what tells them."""
