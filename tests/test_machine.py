@@ -179,6 +179,13 @@ class TrailTest(unittest.TestCase):
         self.assertEqual(len(trail(skips(101), ())), 102)
         self.assertEqual(trail(skips(101), (), 101)[-2:], ((101, ()), ("none",)))
 
+    def test_somewhat_beyond_the_bounds_nothing_is_refused(self):
+        self.assertEqual(trail(skips(250), (), 250)[-2:], ((250, ()), ("none",)))
+        wide = (((0, 1),) * 4, 7, (("put", 6, name(3), "+", name(0)), ("tell", name(6))))
+        self.assertEqual(trail(wide, (1, 2, 3, 4)), (
+            (0, (1, 2, 3, 4, 0, 0, 0)), (1, (1, 2, 3, 4, 0, 0, 5)), ("told", 5),
+        ))
+
     def test_each_thing_is_the_one_ahead_of_it_moved(self):
         told = trail(SUMMING, (7,))
         self.assertEqual(told[0], began(SUMMING, (7,)))
