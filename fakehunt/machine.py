@@ -1,5 +1,6 @@
 """Runs of a program: states, how they are moved, trails and what they tell."""
 
+from fakehunt.common import replaced
 from fakehunt.numbers import is_so, reckon
 
 
@@ -20,9 +21,8 @@ def at_end(program, state):
 def values_behind(row, values):
     if row[0] != "put":
         return values
-    x = row[1]
     number = reckon(worth(row[2], values), row[3], worth(row[4], values))
-    return values[:x] + (number,) + values[x + 1:]
+    return replaced(values, row[1], number)
 
 
 def place_behind(row, k, values):

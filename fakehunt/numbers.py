@@ -3,6 +3,10 @@
 HALF = 1000000000
 RING = 2000000000
 
+# In the order of their rings: the sign behind each is the next one, behind the last the first.
+PUT_SIGNS = ("+", "-", "*", "/", "mod")
+IF_SIGNS = ("<", "<=", "=", ">=", ">", "!=")
+
 
 def around(number):
     return (number + HALF) % RING - HALF

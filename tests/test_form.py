@@ -22,6 +22,22 @@ PYTHONS_OWN = (
 
 METHODS = "__init__ __eq__ __repr__ __str__ __len__".split()
 
+VALUE_METHODS = (
+    "append clear copy count endswith extend find get index insert isalnum isalpha isdigit islower isspace isupper "
+    "items join keys ljust lower lstrip partition pop remove replace reverse rfind rjust rpartition rsplit rstrip "
+    "setdefault split splitlines startswith strip update upper values zfill bit_length"
+).split()
+
+NOWHERE = "register mro elements open input version_info with_traceback add_note format format_map args".split()
+
+WALKED_AT_ONCE = "zip enumerate reversed range".split()
+WALKERS = "list tuple dict sorted sum any all enumerate zip min max join".split()
+
+KEYWORDS = {
+    "sorted": ("key", "reverse"), "min": ("key", "default"), "max": ("key", "default"), "sum": ("start",),
+    "enumerate": ("start",), "zip": ("strict",),
+}
+
 NODES = (
     ast.Module, ast.ImportFrom, ast.alias, ast.FunctionDef, ast.ClassDef, ast.arguments, ast.arg, ast.Lambda,
     ast.Assign, ast.AugAssign, ast.If, ast.While, ast.For, ast.Return, ast.Break, ast.Continue, ast.Pass, ast.Raise,
@@ -54,6 +70,39 @@ def bound_name(node):
 
 def bound_names(nodes):
     return [bound_name(node) for node in nodes if bound_name(node) is not None]
+
+
+def is_plain(node):
+    """A value that a name at the top of a file may have."""
+    if isinstance(node, ast.UnaryOp):
+        node = node.operand
+    if isinstance(node, ast.Tuple):
+        return all(is_plain(part) for part in node.elts)
+    if isinstance(node, ast.List):
+        return all(is_plain(part) and not isinstance(part, (ast.List, ast.Dict)) for part in node.elts)
+    if isinstance(node, ast.Dict):
+        parts = node.keys + node.values
+        return all(is_plain(part) and not isinstance(part, (ast.List, ast.Dict)) for part in parts)
+    return isinstance(node, (ast.Constant, ast.Name))
+
+
+def called(node):
+    if isinstance(node.func, ast.Attribute):
+        return node.func.attr
+    return getattr(node.func, "id", "")
+
+
+def drawn_from(path):
+    modules = [node.module for node in nodes_of(path) if isinstance(node, ast.ImportFrom)]
+    return [PACKAGE / (module.split(".")[1] + ".py") for module in modules]
+
+
+def all_classes():
+    return [node for path in FILES for node in nodes_of(path) if isinstance(node, ast.ClassDef)]
+
+
+def own_methods():
+    return [part.name for one in all_classes() for part in one.body if isinstance(part, ast.FunctionDef)]
 
 
 def defined_in(path):
@@ -134,6 +183,141 @@ class FormTest(unittest.TestCase):
             for node in nodes:
                 if isinstance(node, ast.Name) and node.id not in bound:
                     self.assertIn(node.id, PYTHONS_OWN)
+        self.for_each_file(check)
+
+    def test_the_top_of_a_file(self):
+        def check(path):
+            body = ast.parse(text_of(path)).body
+            self.assertIsInstance(body[0].value, ast.Constant)
+            for node in body[1:]:
+                self.assertIsInstance(node, (ast.ImportFrom, ast.FunctionDef, ast.ClassDef, ast.Assign))
+                if isinstance(node, ast.Assign):
+                    self.assertIsInstance(node.targets[0], ast.Name)
+                    self.assertTrue(is_plain(node.value), node.lineno)
+            tops = bound_names([part for node in body for part in [node] + getattr(node, "targets", [])])
+            self.assertEqual(len(tops), len(set(tops)))
+        self.for_each_file(check)
+
+    def test_functions(self):
+        def check(path):
+            for node in nodes_of(path):
+                if isinstance(node, ast.arguments):
+                    self.assertEqual((node.vararg, node.kwarg, node.kwonlyargs, node.posonlyargs), (None, None, [], []))
+                if isinstance(node, ast.FunctionDef):
+                    self.assertEqual(node.args.defaults, [each for each in node.args.defaults if is_plain(each)])
+                    self.assertIsNone(node.returns)
+                if isinstance(node, ast.arg):
+                    self.assertIsNone(node.annotation)
+        self.for_each_file(check)
+
+    def test_classes(self):
+        for one in all_classes():
+            with self.subTest(one=one.name):
+                self.assertLessEqual(len(one.bases), 1)
+                self.assertEqual(one.keywords, [])
+                for part in one.body:
+                    self.assertIsInstance(part, (ast.FunctionDef, ast.Pass))
+                names = [part.name for part in one.body if isinstance(part, ast.FunctionDef)]
+                self.assertEqual(len(names), len(set(names)))
+                for name in names:
+                    self.assertTrue(name in METHODS or not name.startswith("_"), name)
+
+    def test_classes_are_called_or_stand_under_one_another(self):
+        names = [one.name for one in all_classes()]
+
+        def check(path):
+            nodes = nodes_of(path)
+            fine = []
+            for node in nodes:
+                if isinstance(node, ast.Call):
+                    fine.append(node.func)
+                    if called(node) == "isinstance":
+                        fine.append(node.args[1])
+                if isinstance(node, ast.ClassDef):
+                    fine.extend(node.bases)
+                if isinstance(node, ast.ExceptHandler):
+                    fine.append(node.type)
+            for node in nodes:
+                if isinstance(node, ast.Name) and node.id in names:
+                    self.assertIn(node, fine, node.lineno)
+        self.for_each_file(check)
+
+    def test_no_name_is_a_method_here_and_a_value_there(self):
+        values = set()
+        for path in FILES:
+            for node in nodes_of(path):
+                if isinstance(node, ast.Attribute) and isinstance(node.ctx, ast.Store):
+                    self.assertIsInstance(node.value, ast.Name)
+                    values.add(node.attr)
+        self.assertEqual(sorted(values & set(own_methods())), [])
+        for kind in (str, int, list, dict, set, bytes):
+            self.assertEqual([name for name in sorted(values) if hasattr(kind, name)], [])
+
+    def test_methods_that_are_called(self):
+        def check(path):
+            for node in nodes_of(path):
+                if isinstance(node, ast.Attribute):
+                    self.assertNotIn(node.attr, NOWHERE)
+                if isinstance(node, ast.Call) and isinstance(node.func, ast.Attribute):
+                    self.assertIn(node.func.attr, VALUE_METHODS + own_methods())
+        self.for_each_file(check)
+
+    def test_keywords(self):
+        def check(path):
+            for node in nodes_of(path):
+                if isinstance(node, ast.Call):
+                    for keyword in node.keywords:
+                        self.assertIn(keyword.arg, KEYWORDS.get(called(node), ()), node.lineno)
+        self.for_each_file(check)
+
+    def test_no_local_is_called_like_a_class_or_an_import(self):
+        def check(path):
+            nodes = nodes_of(path)
+            kept = bound_names([node for node in nodes if isinstance(node, (ast.ClassDef, ast.alias))])
+            held = [node for node in nodes if not isinstance(node, (ast.ClassDef, ast.alias))]
+            self.assertEqual([name for name in bound_names(held) if name in kept], [])
+        self.for_each_file(check)
+
+    def test_no_files_draw_from_one_another(self):
+        for path in FILES:
+            reached = []
+            ahead = drawn_from(path)
+            while ahead:
+                one = ahead.pop()
+                if one not in reached:
+                    reached.append(one)
+                    ahead.extend(drawn_from(one))
+            self.assertNotIn(path, reached)
+
+    def test_walked_at_once(self):
+        def check(path):
+            nodes = nodes_of(path)
+            fine = []
+            for node in nodes:
+                if isinstance(node, (ast.For, ast.comprehension)):
+                    fine.append(node.iter)
+                if isinstance(node, ast.Call) and called(node) in WALKERS:
+                    fine.extend(node.args)
+            for node in nodes:
+                if isinstance(node, ast.Call) and called(node) in WALKED_AT_ONCE + ["items", "keys", "values"]:
+                    self.assertIn(node, fine, node.lineno)
+        self.for_each_file(check)
+
+    def test_expressions(self):
+        def check(path):
+            for node in nodes_of(path):
+                if isinstance(node, ast.ListComp):
+                    self.assertEqual(len(node.generators), 1)
+                    self.assertLessEqual(len(node.generators[0].ifs), 1)
+                if isinstance(node, ast.FormattedValue):
+                    self.assertIsInstance(node.value, ast.Name)
+                    self.assertIsNone(node.format_spec)
+                if isinstance(node, ast.Compare) and any(isinstance(op, (ast.Is, ast.IsNot)) for op in node.ops):
+                    self.assertIsInstance(node.comparators[0], ast.Constant)
+                if isinstance(node, ast.Constant) and isinstance(node.value, str):
+                    self.assertNotIn("%", node.value)
+                if isinstance(node, ast.Assign):
+                    self.assertIsInstance(node.targets[0], (ast.Name, ast.Attribute, ast.Subscript))
         self.for_each_file(check)
 
 
