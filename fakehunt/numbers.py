@@ -1,5 +1,7 @@
 """Small numbers: bringing round, the signs of a put, the signs of an if."""
 
+LOWEST = -1000000000
+HIGHEST = 999999999
 HALF = 1000000000
 RING = 2000000000
 
