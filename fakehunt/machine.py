@@ -1,6 +1,6 @@
 """Runs of a program: states, how they are moved, trails and what they tell."""
 
-from fakehunt.common import replaced
+from fakehunt.common import bit_of, replaced
 from fakehunt.numbers import is_so, reckon
 
 
@@ -75,12 +75,12 @@ def places_done(things):
     return [state[0] for state in states]
 
 
-def seen(program, inputs, limit=100):
-    places = places_done(trail(program, inputs, limit))
+def seen_in(things):
     bits = 0
-    bit = 1
-    for k in range(len(program[2])):
-        if k in places:
-            bits = bits + bit
-        bit = bit * 2
+    for k in places_done(things):
+        bits = bits | bit_of(k)
     return bits
+
+
+def seen(program, inputs, limit=100):
+    return seen_in(trail(program, inputs, limit))
