@@ -1,18 +1,7 @@
 import unittest
 
 from fakehunt.machine import began, moved, outcome, seen, trail, worth
-
-LOW = -1000000000
-HIGH = 999999999
-NOTHING = ((), 0, ())
-
-
-def name(i):
-    return ("name", i)
-
-
-def number(c):
-    return ("number", c)
+from samples import HIGH, LOW, NOTHING, SUMMING, name, number
 
 
 def of_rows(*rows):
@@ -21,16 +10,6 @@ def of_rows(*rows):
 
 def skips(many):
     return ((), 0, (("skip",),) * many)
-
-
-# Takes one number and tells the sum of all from it down to 1.
-SUMMING = (((0, 9),), 2, (
-    ("if", name(0), "<=", number(0), 4),
-    ("put", 1, name(1), "+", name(0)),
-    ("put", 0, name(0), "-", number(1)),
-    ("go", 0),
-    ("tell", name(1)),
-))
 
 
 class WorthTest(unittest.TestCase):

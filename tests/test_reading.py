@@ -148,7 +148,7 @@ class RefusedTest(unittest.TestCase):
             self.check(NoLine, 2, "take a 0 1", row)
 
     def test_other_first_words(self):
-        for line in ("Take a 0 1", "SKIP", "Skip", "takes a 0 1", "tak a 0 1", "skipp", "a", "0", "put:", "end", "jump 0"):
+        for line in ("Take a 0 1", "SKIP", "Skip", "takes a 0 1", "tak a 0 1", "skipp", "a", "0", "put:", "jump 0"):
             self.check(NoLine, 1, line)
 
     def test_signs_of_the_other_kind_of_row(self):
